@@ -1,0 +1,55 @@
+"""Things that tests hand in, and ways to hand them in."""
+
+import copy
+
+FAR = 10 ** 30 - 1
+
+
+def listed(thing):
+    """The thing with a list in the place of each tuple, also within others."""
+    if isinstance(thing, (tuple, list)):
+        return [listed(part) for part in thing]
+    return thing
+
+
+def nested(depth, thing=()):
+    """A list that stands in a tuple, that in a list, and so on, so many deep."""
+    for at in range(depth):
+        thing = (thing,) if at % 2 else [thing]
+    return thing
+
+
+def odd_things():
+    """Things that are neither texts nor small numbers, made anew at each call since tests may alter them."""
+    return [
+        -1, FAR, -FAR, True, False, None,
+        (), ("a",), ("n",), ("A", "b"), (1, 2), [], ["a"], ["Oak"], [["a"]], ((), []), nested(150),
+    ]
+
+
+def no_texts():
+    """Things that are no texts."""
+    return [0, 1, 7, *odd_things()]
+
+
+def alike(one, other):
+    """Whether the two are equal and of the same classes throughout, so that 1 is not alike True nor () alike []."""
+    if type(one) is not type(other):
+        return False
+    if isinstance(one, (tuple, list)):
+        return len(one) == len(other) and all(alike(a, b) for a, b in zip(one, other))
+    return one == other
+
+
+def caught(error, call, *args, **named):
+    """The error of just this class that the call raises; fails where the call alters what it was handed."""
+    before = copy.deepcopy((args, named))
+    try:
+        told = call(*args, **named)
+    except Exception as why:
+        if type(why) is not error:
+            raise
+        if not alike(list(before[0]), list(args)) or before[1] != named:
+            raise AssertionError(f"{call} altered {before}") from why
+        return why
+    raise AssertionError(f"{call} told {told!r} of {args!r} {named!r}")

@@ -1,0 +1,1 @@
+"""Wayneedle: maps of walkers whose compasses are off."""
