@@ -56,8 +56,7 @@ class Classes(unittest.TestCase):
 class Fields(unittest.TestCase):
     def holds(self, made, names, given):
         for name, thing in zip(names, given):
-            self.assertTrue(getattr(made, name) == thing, (made, name))
-            self.assertIs(type(getattr(made, name)), type(thing), (made, name))
+            self.assertTrue(alike(getattr(made, name), thing), name)
         self.assertEqual(sorted(vars(made)), sorted(names))
 
     def test_made_by_places(self):
@@ -87,10 +86,34 @@ class Fields(unittest.TestCase):
                     self.assertTrue(alike(getattr(made, name), [1, (2, [3])]), (word, name))
 
     def test_a_list_that_is_altered_deep_within_does_not_alter_a_field(self):
-        inmost = [1]
-        made = errors.NoLot(nested(90, inmost))
-        inmost.append(2)
-        self.assertTrue(alike(made.lot, nested(90, [1])))
+        for word, names in FIELDS.items():
+            for depth in (1, 2, 90, 99, 100, 101, 150, 1000, 20000):
+                inmost = [[1] for _ in names]
+                if names:
+                    given = [nested(depth, thing) for thing in inmost]
+                    made = getattr(errors, word)(*given)
+                    for thing, whole in zip(inmost, given):
+                        self.assertTrue(alike(whole, nested(depth, [1])), (word, depth))
+                        thing.append(2)
+                    for name in names:
+                        self.assertTrue(alike(getattr(made, name), nested(depth, [1])), (word, depth))
+
+    def test_lists_beside_one_another_are_each_kept(self):
+        shared = [1]
+        thing = [shared, (shared, 2, ([], shared)), "a", [[]], (), ((None, True), 0)]
+        before = [[1], ([1], 2, ([], [1])), "a", [[]], (), ((None, True), 0)]
+        made = errors.NoName(thing)
+        self.assertTrue(alike(made.name, before))
+        shared.append(3)
+        thing[3][0].append(4)
+        thing[1][2][0].append(5)
+        self.assertTrue(alike(made.name, before))
+
+    def test_a_field_of_deep_tuples_is_equal_to_them(self):
+        thing = ()
+        for _ in range(5000):
+            thing = (thing,)
+        self.assertTrue(errors.NoName(thing).name == thing)
 
     def test_made_with_another_number_of_things(self):
         for word, names in FIELDS.items():

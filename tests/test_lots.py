@@ -3,7 +3,7 @@
 import copy
 import unittest
 
-from tests.samples import FAR, alike, caught, odd_things
+from tests.samples import FAR, alike, caught, nested, odd_things
 from wayneedle.errors import NoLot
 from wayneedle.lots import LETTERS, both, shown, step, true, turned, undone, way_of
 
@@ -186,6 +186,14 @@ class Refused(unittest.TestCase):
             thing[1][0].append(4)
             thing.append(5)
             self.assertTrue(alike(told, before))
+
+    def test_a_list_that_is_altered_deep_within_does_not_alter_the_refusal(self):
+        for call, rest in ((true, ("n",)), (shown, ("n",)), (undone, ()), (turned, ((1, 2),)), (both, (0,))):
+            for depth in (99, 100, 101, 150, 5000):
+                inmost = []
+                told = self.refuses(call, nested(depth, inmost), *rest)
+                inmost.append(1)
+                self.assertTrue(alike(told, nested(depth, [])), (call, depth))
 
 
 if __name__ == "__main__":
