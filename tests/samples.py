@@ -30,6 +30,14 @@ def no_texts():
     return [0, 1, 7, *odd_things()]
 
 
+def no_lots():
+    """Things that are no lots."""
+    return odd_things() + [
+        8, 9, -2, -8, 100, 2 ** 64, 2 ** 64 + 3, FAR - 7, "", "n", "0", "3", "7", " 1", "Oak", "~" * 4000,
+        (0,), (3,), [0], [3], [7, 7], [[3]], ([1], (2,)), ((), 1), nested(400),
+    ]
+
+
 def flat(thing):
     """The classes and parts of the thing in one row, however deep it is nested; it holds none of its lists."""
     row, waiting = [], [thing]

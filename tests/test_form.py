@@ -18,6 +18,20 @@ BARRED = """type typing typing_extensions enum Enum IntEnum StrEnum Flag IntFlag
 
 METHODS = {"__init__", "__eq__", "__repr__", "__str__", "__len__"}
 
+BUILTIN_METHODS = set("""append clear copy count endswith extend find get index insert isalnum isalpha isdigit islower isspace
+    isupper items join keys ljust lower lstrip partition pop remove replace reverse rfind rjust rpartition rsplit rstrip
+    setdefault split splitlines startswith strip update upper values zfill bit_length""".split())
+
+# Which functions and classes the interface lists under which file, as far as they are built.
+INTERFACE = {
+    "lots": "step way_of true shown both undone turned",
+    "logs": "is_name is_sign is_lone held_log legs_in",
+    "tracks": "track facts",
+    "atlas": "Atlas is_dealt told groups",
+    "fits": "spread fits",
+    "bars": "is_bad bars settled",
+}
+
 
 def sources():
     """The path, the text and the tree of each file."""
@@ -61,6 +75,15 @@ class Files(unittest.TestCase):
         for path, text, tree in sources():
             self.assertEqual(re.findall(r"\b(" + "|".join(BARRED) + r")\b", text), [], path)
             self.assertEqual(re.findall("dataclass|overload|contextmanager", text), [], path)
+
+
+class Interface(unittest.TestCase):
+    def test_each_is_defined_in_its_file(self):
+        defined = {}
+        for path, text, tree in sources():
+            defined[path.stem] = [node.name for node in tree.body if isinstance(node, (ast.FunctionDef, ast.ClassDef))]
+        for stem, names in INTERFACE.items():
+            self.assertEqual(set(names.split()) - set(defined[stem]), set(), stem)
 
 
 class Imports(unittest.TestCase):
@@ -125,6 +148,31 @@ class Code(unittest.TestCase):
             self.assertNotIsInstance(node.value, (float, complex), (path, node.lineno))
             if isinstance(node.value, str):
                 self.assertNotIn("%", node.value, (path, node.lineno))
+
+    def test_lists_instead_of_generators(self):
+        # A class of the package has an __eq__ of its own, so these take lists alone, and no list is sorted in place.
+        for path, node in nodes(ast.Call):
+            if isinstance(node.func, ast.Name) and node.func.id in ("any", "all", "min", "max", "sum", "sorted"):
+                self.assertFalse([arg for arg in node.args if isinstance(arg, ast.GeneratorExp)], (path, node.lineno))
+            if isinstance(node.func, ast.Attribute):
+                self.assertNotEqual(node.func.attr, "sort", (path, node.lineno))
+
+    def test_no_name_is_a_method_and_an_attribute(self):
+        methods = {part.name for path, node in nodes(ast.ClassDef) for part in node.body if isinstance(part, ast.FunctionDef)}
+        attributes = {node.attr for path, node in nodes(ast.Attribute) if isinstance(node.ctx, ast.Store)}
+        self.assertEqual(methods & attributes, set())
+        read = {node.attr for path, node in nodes(ast.Attribute) if isinstance(node.ctx, ast.Load)}
+        self.assertEqual(read - methods - attributes - BUILTIN_METHODS, set())
+
+    def test_no_local_name_is_that_of_a_class_or_an_import(self):
+        for path, text, tree in sources():
+            barred = {name.asname or name.name for node in tree.body if isinstance(node, ast.ImportFrom) for name in node.names}
+            barred |= {node.name for node in tree.body if isinstance(node, ast.ClassDef)}
+            for node in ast.walk(tree):
+                if isinstance(node, ast.arg):
+                    self.assertNotIn(node.arg, barred, path)
+                elif isinstance(node, ast.Name) and not isinstance(node.ctx, ast.Load):
+                    self.assertNotIn(node.id, barred, (path, node.lineno))
 
     def test_errors_are_made_where_they_are_raised(self):
         for path, node in nodes(ast.Raise):

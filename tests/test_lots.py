@@ -3,7 +3,7 @@
 import copy
 import unittest
 
-from tests.samples import FAR, alike, caught, nested, odd_things
+from tests.samples import FAR, alike, caught, nested, no_lots
 from wayneedle.errors import NoLot
 from wayneedle.lots import LETTERS, both, shown, step, true, turned, undone, way_of
 
@@ -14,14 +14,6 @@ UNDONE = (0, 3, 2, 1, 4, 5, 6, 7)
 
 # Where each lot turns the place (3, 5).
 TURNED = ((3, 5), (5, -3), (-3, -5), (-5, 3), (-3, 5), (5, 3), (3, -5), (-5, -3))
-
-
-def no_lots():
-    """Things that are no lots, made anew at each call."""
-    return odd_things() + [
-        8, 9, -2, -8, 100, 2 ** 64, 2 ** 64 + 3, FAR - 7, "", "n", "0", "3", "7", " 1", "Oak", "~" * 4000,
-        (0,), (3,), [0], [3], [7, 7], ([1], (2,)),
-    ]
 
 
 class Letters(unittest.TestCase):

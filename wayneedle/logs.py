@@ -84,3 +84,10 @@ def held_log(entries):
 def legs_in(log):
     """How many legs the log has: each swap begins one more."""
     return 1 + len([entry for entry in log if entry[0] == "swap"])
+
+
+def first_legs(log, many):
+    """The part of the log that is its first legs, so many, one at least."""
+    swaps = [at for at, entry in enumerate(log) if entry[0] == "swap"]
+    # The swap itself belongs to the leg that it begins.
+    return log[:swaps[many - 1]] if many <= len(swaps) else log
