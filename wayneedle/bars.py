@@ -86,7 +86,7 @@ def are_branches(teller, thing, dealt):
     if not is_row(thing) or not all([is_row(pair) and len(pair) == 2 for pair in thing]):
         return False
     lots = [lot for lot, below in thing]
-    # The same holds of the lots.
+    # A truth equals a lot, so of each is asked whether it is one.
     return all([is_lot(lot) for lot in lots]) and lots == lots_left_in(teller.box, list(dealt.values()))
 
 
