@@ -192,12 +192,12 @@ def leg_of(log, entry):
     return sum(each[0] == "swap" for each in log[:entry + 1])
 
 
-def is_right(box, logs, paper, dealt=None):
-    """Whether the paper is right; point 19, word by word."""
+def is_right(box, logs, paper, dealt=None, goal=None):
+    """Whether the paper is right, for the two signs and the place of the goal; points 19 and 23, word by word."""
     dealt = dealt or {}
     if type(paper) not in (tuple, list):
         return False
-    if len(paper) == 2 and paper[0] == "thread":
+    if len(paper) == 2 and paper[0] in ("thread", "so"):
         # What is not dealt is filled with two unlike lots: what is settled can't hang on them.
         whole = [tuple(dealt.get(leg, lot) for leg in legs(logs)) for lot in (0, 5)]
         if thread_sum(logs, told(logs, whole[0]), paper[1]) is None:
@@ -206,7 +206,10 @@ def is_right(box, logs, paper, dealt=None):
             entry = told(logs, whole[0])[name][max(one, other)][0]
             if any((name, leg) not in dealt for leg in range(leg_of(logs[name], entry) + 1)):
                 return False
-        verdicts = [is_bad(logs, lots, paper[1]) for lots in whole]
+        if paper[0] == "so":
+            verdicts = [is_so(logs, lots, paper[1], goal) for lots in whole]
+        else:
+            verdicts = [is_bad(logs, lots, paper[1]) for lots in whole]
         assert verdicts[0] == verdicts[1]
         return verdicts[0]
     if len(paper) != 4 or paper[0] != "case" or type(paper[1]) is not str or not is_int(paper[2]):
@@ -219,7 +222,140 @@ def is_right(box, logs, paper, dealt=None):
     left = [lot for lot in range(8) if box[lot] > list(dealt.values()).count(lot)]
     if [pair[0] for pair in branches] != left:
         return False
-    return all(is_right(box, logs, below, {**dealt, leg: lot}) for lot, below in branches)
+    return all(is_right(box, logs, below, {**dealt, leg: lot}, goal) for lot, below in branches)
+
+
+def is_so(logs, dealing, thread, goal):
+    """Whether the thread leads from the one sign to the other, and so far."""
+    if goal is None:
+        return False
+    one, other, total = thread_sum(logs, told(logs, dealing), thread)
+    return (one[1], one[3], other[1], other[3], total) == ("sign", goal[0], "sign", goal[1], goal[2])
+
+
+def shows(box, logs, one, other, place, paper):
+    signs = set().union(*[lone(log) for log in logs.values()])
+    if type(one) is not str or type(other) is not str or one not in signs or other not in signs:
+        return False
+    if type(place) not in (tuple, list) or len(place) != 2 or not all(is_int(part) for part in place):
+        return False
+    return is_right(box, logs, paper, goal=(one, other, tuple(place)))
+
+
+def lands(logs, dealing):
+    """For each group its land, all (word, place, what) of its facts, moved; of a dealing that fits."""
+    rows, found = told(logs, dealing), dict(spread(logs, dealing))
+    return {group: {(word, (found[name][0] + place[0], found[name][1] + place[1]), what)
+                    for name in group for entry, word, place, what in rows[name]} for group in groups(logs)}
+
+
+def apart(logs, dealing, one, other):
+    for land in lands(logs, dealing).values():
+        places = [{place for word, place, what in land if what == sign} for sign in (one, other)]
+        if all(places):
+            (first,), (last,) = places
+            return (last[0] - first[0], last[1] - first[1])
+    return None
+
+
+def surely(box, logs, one, other):
+    """What is so of the two, but for papers."""
+    found = fits(box, logs)
+    if not found:
+        return ("barred",)
+    places = [apart(logs, dealing, one, other) for dealing in found]
+    if places[0] is None:
+        return ("unlinked",)
+    others = [dealing for dealing, place in zip(found, places) if place != places[0]]
+    return ("unlike", found[0], others[0]) if others else ("apart", places[0])
+
+
+def charted(logs, dealing, name):
+    land = next(land for group, land in lands(logs, dealing).items() if name in group)
+    return (tuple(sorted((place, what) for word, place, what in land if word == "sign")),
+            tuple(sorted(place for word, place, what in land if word == "bare")),
+            tuple(sorted((*place, what) for word, place, what in land if word == "open")),
+            tuple(sorted((*place, what) for word, place, what in land if word == "shut")))
+
+
+def drawn(logs, dealing, name):
+    """The drawing, set sign by sign on a sheet with two columns and rows for each place."""
+    sheet = {(0, 0): "?"}
+    for kind, things in zip(("sign", "bare", "open", "shut"), charted(logs, dealing, name)):
+        for thing in things:
+            if kind == "sign":
+                (east, north), sign = thing
+                sheet[2 * east, 2 * north] = sign[0]
+            elif kind == "bare":
+                sheet[2 * thing[0], 2 * thing[1]] = "."
+            else:
+                east, north, side = thing
+                more = (1, 0) if side == "e" else (0, 1)
+                for many in (0, 2):
+                    sheet.setdefault((2 * east + many * more[0], 2 * north + many * more[1]), "?")
+                mark = "#" if kind == "shut" else {"e": "-", "n": "|"}[side]
+                sheet[2 * east + more[0], 2 * north + more[1]] = mark
+    columns, rows = [sorted(spot[k] for spot in sheet) for k in (0, 1)]
+    lines = []
+    for y in range(rows[-1], rows[0] - 1, -1):
+        line = ""
+        for x in range(columns[0], columns[-1] + 1):
+            line += sheet.get((x, y), "?" if x % 2 == 0 and y % 2 == 0 else " ")
+        lines.append(line)
+    return "\n".join(lines)
+
+
+def sign_walk(logs, dealing, lot, one, other):
+    """The place of one, that of other and for each place and letter the place that the step leads to."""
+    land = next(land for land in lands(logs, dealing).values() if any(what == one for word, place, what in land))
+    first, last = [next(place for word, place, what in land if what == sign) for sign in (one, other)]
+    steps = {}
+    for word, (east, north), side in land:
+        if word == "open":
+            beyond = (east + (side == "e"), north + (side == "n"))
+            for here, there in (((east, north), beyond), (beyond, (east, north))):
+                truly = WAYS.index((there[0] - here[0], there[1] - here[1]))
+                shown = next(k for k in range(4) if turn(lot, k) == truly)
+                steps[here, "nesw"[shown]] = there
+    return first, last, steps
+
+
+def leads(walks, letters):
+    for here, last, steps in walks:
+        for letter in letters:
+            here = steps.get((here, letter))
+        if here != last:
+            return False
+    return True
+
+
+def fewest(walks):
+    """The letters that lead in all walks, found from the end: how far each joint place is from it."""
+    begin, end = [tuple(walk[k] for walk in walks) for k in (0, 1)]
+
+    def onward(places, letter):
+        further = tuple(walk[2].get((place, letter)) for walk, place in zip(walks, places))
+        return None if None in further else further
+    known = [begin]
+    for places in known:
+        for letter in "nesw":
+            further = onward(places, letter)
+            if further is not None and further not in known:
+                known.append(further)
+    far = {end: 0}
+    for _ in known:
+        for places in known:
+            near = [far[onward(places, letter)] + 1 for letter in "nesw" if onward(places, letter) in far]
+            if near:
+                far[places] = min(near + [far.get(places, near[0])])
+    if begin not in far:
+        return None
+    letters, here = [], begin
+    while here != end:
+        letter = next(k for k in "nesw" if onward(here, k) in far and far[onward(here, k)] == far[here] - 1)
+        letters.append(letter)
+        here = onward(here, letter)
+    return tuple(letters)
 
 
 def random_log(chance, entries, swaps):

@@ -68,3 +68,16 @@ def caught(error, call, *args, **named):
             raise AssertionError(f"{call} altered what it was handed") from why
         return why
     raise AssertionError(f"{call} told {told!r} of {args!r} {named!r}")
+
+
+def spoilt(chance, thing):
+    """The thing with some part altered, left out or said twice."""
+    if isinstance(thing, tuple) and thing and chance.random() < 0.85:
+        at = chance.randrange(len(thing))
+        return (*thing[:at], spoilt(chance, thing[at]), *thing[at + 1:])
+    if isinstance(thing, int):
+        return chance.choice((thing + 1, thing - 1, thing, True, None, str(thing)))
+    if isinstance(thing, str):
+        return chance.choice(("ann", "bob", "cy", "dora", "eve", "thread", "case", "so", thing, None, 0))
+    at = chance.randrange(len(thing)) if thing else 0
+    return chance.choice((thing[:at] + thing[at + 1:], thing[:at] + thing[at:at + 1] + thing[at:], thing[::-1], list(thing)))

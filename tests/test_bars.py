@@ -4,7 +4,7 @@ import random
 import unittest
 
 from tests import oracle
-from tests.samples import FAR, alike, caught, flat, listed, nested, odd_things
+from tests.samples import FAR, alike, caught, flat, listed, nested, odd_things, spoilt
 from wayneedle.atlas import Atlas, told
 from wayneedle.bars import bars, is_bad, settled
 from wayneedle.errors import NoDealing
@@ -516,19 +516,6 @@ class Settled(unittest.TestCase):
         name, leg = legs[len(lots)]
         left = [lot for lot in range(8) if atlas.box[lot] > lots.count(lot)]
         return ("case", name, leg, tuple((lot, self.tried(atlas, (*lots, lot))) for lot in left))
-
-
-def spoilt(chance, thing):
-    """The thing with some part altered, left out or said twice."""
-    if isinstance(thing, tuple) and thing and chance.random() < 0.85:
-        at = chance.randrange(len(thing))
-        return (*thing[:at], spoilt(chance, thing[at]), *thing[at + 1:])
-    if isinstance(thing, int):
-        return chance.choice((thing + 1, thing - 1, thing, True, None, str(thing)))
-    if isinstance(thing, str):
-        return chance.choice(("ann", "bob", "cy", "dora", "eve", "thread", "case", thing, None, 0))
-    at = chance.randrange(len(thing)) if thing else 0
-    return chance.choice((thing[:at] + thing[at + 1:], thing[:at] + thing[at:at + 1] + thing[at:], thing[::-1], list(thing)))
 
 
 if __name__ == "__main__":

@@ -30,6 +30,9 @@ INTERFACE = {
     "atlas": "Atlas is_dealt told groups",
     "fits": "spread fits",
     "bars": "is_bad bars settled",
+    "sure": "lots_left apart surely shows",
+    "maps": "charted drawn",
+    "ways": "road leads sure_way",
 }
 
 

@@ -60,12 +60,28 @@ def can_not_be(one, other, total):
     return words in WORDS_OF_WAYS and one[3] == other[3]
 
 
+def ends_of(rows, thread):
+    """The two facts that are the ends of the thread."""
+    first, last = thread[0], thread[-1]
+    return rows[first[0]][first[1]], rows[last[0]][last[2]]
+
+
 def is_bad_thread(rows, thing):
     """Whether the thing is a thread along these facts that is bad."""
     if not is_thread(rows, thing):
         return False
-    first, last = thing[0], thing[-1]
-    return can_not_be(rows[first[0]][first[1]], rows[last[0]][last[2]], sum_of(rows, thing))
+    first, last = ends_of(rows, thing)
+    return can_not_be(first, last, sum_of(rows, thing))
+
+
+def is_so(rows, thing, goal):
+    """Whether the thing is a thread along these facts that leads from the one sign to the other, so far apart."""
+    if goal is None or not is_thread(rows, thing):
+        return False
+    one, other, place = goal
+    first, last = ends_of(rows, thing)
+    # Both are lone signs, and only facts of the word sign tell such.
+    return first[3] == one and last[3] == other and sum_of(rows, thing) == place
 
 
 def is_bad(atlas, dealing, thread):
@@ -97,30 +113,34 @@ def dealt_too(dealt, leg, lot):
     return more
 
 
-def is_right_case(teller, name, leg, branches, dealt):
-    """Whether the three make a case that is right with the legs that are dealt."""
+def is_right_case(teller, paper, dealt, goal):
+    """Whether the three behind the word make a case that is right with the legs that are dealt."""
+    name, leg, branches = paper[1:]
     if not is_left(teller, name, leg, dealt) or not are_branches(teller, branches, dealt):
         return False
     for lot, below in branches:
-        if not is_right(teller, below, dealt_too(dealt, (name, leg), lot)):
+        if not is_right(teller, below, dealt_too(dealt, (name, leg), lot), goal):
             return False
     return True
 
 
-def is_right(teller, paper, dealt):
-    """Whether the thing is a paper that is right with the legs that are dealt."""
+def is_right(teller, paper, dealt, goal):
+    """Whether the thing is a paper that is right with the legs that are dealt.
+
+    The goal is None, or two lone signs and a place for which the paper may show that they are so far apart.
+    """
     if not is_row(paper):
         return False
     if len(paper) == 2 and paper[0] == "thread":
         return is_bad_thread(teller.settled_facts(dealt), paper[1])
-    if len(paper) == 4 and paper[0] == "case":
-        return is_right_case(teller, paper[1], paper[2], paper[3], dealt)
-    return False
+    if len(paper) == 2 and paper[0] == "so":
+        return is_so(teller.settled_facts(dealt), paper[1], goal)
+    return len(paper) == 4 and paper[0] == "case" and is_right_case(teller, paper, dealt, goal)
 
 
 def bars(atlas, paper):
     """Whether the thing is a right paper: it shows that no dealing fits."""
-    return is_right(Teller(atlas), paper, {})
+    return is_right(Teller(atlas), paper, {}, None)
 
 
 def settled_behind(teller, lots):

@@ -41,13 +41,13 @@ class Weave:
         self.above = {}
         # Walkers that no thread leads between have lands of their own, which can't clash.
         self.lands = []
-        tellers = self.tellers()
+        self.tellers = self.all_tellers()
         for name in rows:
             if name not in self.starts:
                 self.starts[name] = (0, 0)
-                self.lands.append(self.reach(name, tellers))
+                self.lands.append(self.reach(name))
 
-    def tellers(self):
+    def all_tellers(self):
         """For each lone sign the walkers that tell it, each with the number of its first fact that does."""
         found = {}
         for name in self.rows:
@@ -56,7 +56,7 @@ class Weave:
                     found.setdefault(fact[3], {}).setdefault(name, number)
         return found
 
-    def reach(self, first, tellers):
+    def reach(self, first):
         """Start all walkers that are linked to the first one; the names of it and them."""
         names = [first]
         done = 0
@@ -64,18 +64,23 @@ class Weave:
             name = names[done]
             for number, fact in enumerate(self.rows[name]):
                 if is_lone_fact(fact):
-                    names.extend(self.reach_by(name, number, tellers[fact[3]]))
+                    names.extend(self.reach_by(name, number))
             done += 1
         return names
 
-    def reach_by(self, name, number, tellers):
+    def reach_by(self, name, number):
         """Start those walkers that tell the sign of this fact and have no start yet; their names."""
+        tellers = self.tellers[self.rows[name][number][3]]
         reached = [other for other in tellers if other not in self.starts]
-        place = added(self.starts[name], self.rows[name][number][2])
+        place = self.place_of(name, number)
         for other in reached:
             self.starts[other] = less(place, self.rows[other][tellers[other]][2])
             self.above[other] = (name, number, tellers[other])
         return reached
+
+    def place_of(self, name, number):
+        """Where in the land of the walker the thing lies that its fact of this number tells of."""
+        return added(self.starts[name], self.rows[name][number][2])
 
     def clash_among(self, names):
         """Two facts of these walkers, each a name and a number, that tell otherwise of one thing; else None."""
@@ -121,6 +126,27 @@ class Weave:
             if ends is not None:
                 return self.thread(ends[0], ends[1])
         return None
+
+    def land_with(self, name):
+        """The names of all walkers in the land of this one."""
+        return [names for names in self.lands if name in names][0]
+
+    def ends(self, one, other):
+        """Two facts, each a name and a number, that tell the two lone signs in one land; else None."""
+        if one not in self.tellers or other not in self.tellers:
+            return None
+        first, last = [list(self.tellers[sign].items())[0] for sign in (one, other)]
+        if last[0] not in self.land_with(first[0]):
+            return None
+        return first, last
+
+    def between(self, one, other):
+        """How far the lone sign other lies from the one; None where they are not told in one land."""
+        ends = self.ends(one, other)
+        if ends is None:
+            return None
+        first, last = ends
+        return less(self.place_of(last[0], last[1]), self.place_of(first[0], first[1]))
 
 
 def first_lots(dealt, name):
