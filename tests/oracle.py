@@ -358,6 +358,63 @@ def fewest(walks):
     return tuple(letters)
 
 
+def blamed(box, logs):
+    """All least sets of names without which a dealing fits."""
+    enough = []
+    for many in range(len(logs) + 1):
+        for names in itertools.combinations(sorted(logs), many):
+            if fits(box, {name: log for name, log in logs.items() if name not in names}):
+                enough.append(names)
+    return tuple(names for names in enough if not any(set(few) < set(names) for few in enough))
+
+
+def question(box, logs):
+    found = fits(box, logs)
+    if len(found) < 2:
+        return None
+    counts = [max(sum(dealing[at] == lot for dealing in found) for lot in range(8)) for at in range(len(legs(logs)))]
+    at = counts.index(min(counts))
+    return (*legs(logs)[at], counts[at])
+
+
+def depth_of(all_legs, left, plan):
+    """The depth of a plan that is right for the dealings that are left; None where it isn't; point 32, word by word."""
+    if type(plan) not in (tuple, list) or not left:
+        return None
+    if len(plan) == 2 and plan[0] == "known":
+        if type(plan[1]) not in (tuple, list) or not all(is_int(lot) for lot in plan[1]):
+            return None
+        return 0 if left == [tuple(plan[1])] else None
+    if len(plan) != 4 or plan[0] != "look" or type(plan[1]) is not str or not is_int(plan[2]):
+        return None
+    if (plan[1], plan[2]) not in all_legs or type(plan[3]) not in (tuple, list):
+        return None
+    at, depths, lots = all_legs.index((plan[1], plan[2])), [], []
+    for pair in plan[3]:
+        if type(pair) not in (tuple, list) or len(pair) != 2 or not is_int(pair[0]):
+            return None
+        lots.append(pair[0])
+        depths.append(depth_of(all_legs, [dealing for dealing in left if dealing[at] == pair[0]], pair[1]))
+    if lots != sorted({dealing[at] for dealing in left}) or None in depths:
+        return None
+    return 1 + max(depths)
+
+
+def least_depth(many_legs, left):
+    """The least depth of a right plan, by trying ever deeper ones."""
+    def enough(some, depth):
+        if len(some) == 1:
+            return True
+        if depth == 0:
+            return False
+        for at in range(many_legs):
+            parts = [[dealing for dealing in some if dealing[at] == lot] for lot in range(8)]
+            if all(enough(part, depth - 1) for part in parts if part and len(part) < len(some)) and some not in parts:
+                return True
+        return False
+    return next(depth for depth in itertools.count() if enough(left, depth))
+
+
 def random_log(chance, entries, swaps):
     """A log of any entries, most of them behind a face, with so many swaps."""
     log = []

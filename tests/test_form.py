@@ -22,7 +22,7 @@ BUILTIN_METHODS = set("""append clear copy count endswith extend find get index 
     isupper items join keys ljust lower lstrip partition pop remove replace reverse rfind rjust rpartition rsplit rstrip
     setdefault split splitlines startswith strip update upper values zfill bit_length""".split())
 
-# Which functions and classes the interface lists under which file, as far as they are built.
+# Which functions and classes the interface lists under which file.
 INTERFACE = {
     "lots": "step way_of true shown both undone turned",
     "logs": "is_name is_sign is_lone held_log legs_in",
@@ -33,6 +33,10 @@ INTERFACE = {
     "sure": "lots_left apart surely shows",
     "maps": "charted drawn",
     "ways": "road leads sure_way",
+    "blame": "blamed question asking known_by",
+    "book": "Book",
+    "texts": "entry_text log_text dealing_text atlas_text read_entry read_log read_dealing read_atlas",
+    "desk": "Desk",
 }
 
 

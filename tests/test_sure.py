@@ -248,6 +248,30 @@ class Surely(unittest.TestCase):
         self.assertEqual(self.asks(atlas, "Oak", "Elm"), ("apart", (1, 0)))
         self.assertEqual(self.asks(atlas, "Elm", "Oak"), ("apart", (-1, 0)))
 
+    def test_apart_over_several_walkers(self):
+        # The one is told by ann's log alone, the other by bob's or cy's.
+        ann, bob = (OAK, FACE, ("go", 1), ASH), (ASH, FACE, ("go", 1), ELM)
+        for names in (("ann", "bob"), ("bob", "ann")):
+            for box in (RIGHT, (1, 0, 0, 0, 1, 0, 0, 0)):
+                atlas = Atlas(box, zip(names, (ann, bob)))
+                self.assertEqual(self.asks(atlas, "Oak", "Elm"), ("apart", (0, 2)))
+                self.assertEqual(self.asks(atlas, "Elm", "Oak"), ("apart", (0, -2)))
+                self.assertEqual(self.asks(atlas, "Elm", "Ash"), ("apart", (0, -1)))
+
+    def test_apart_by_a_walker_between(self):
+        # Both are told by the first two walkers, but only the third one links them.
+        logs = ((OAK,), (ELM,), (OAK, FACE, ("spy", 5, "Elm")))
+        for names in (("ann", "bob", "cy"), ("bob", "cy", "ann"), ("cy", "ann", "bob")):
+            atlas = Atlas((2, 0, 0, 0, 2, 0, 0, 0), zip(names, logs))
+            self.assertEqual(self.asks(atlas, "Oak", "Elm"), ("apart", (0, 5)))
+            self.assertEqual(self.asks(atlas, "Elm", "Oak"), ("apart", (0, -5)))
+
+    def test_apart_over_later_legs(self):
+        ann = (OAK, SWAP, FACE, ("go", 1), SWAP, ELM)
+        atlas = Atlas((2, 0, 0, 0, 1, 0, 0, 0), (("ann", ann),))
+        self.assertEqual(self.asks(atlas, "Oak", "Elm"), ("apart", (0, 1)))
+        self.assertEqual(self.asks(atlas, "Elm", "Oak"), ("apart", (0, -1)))
+
     def test_unlike(self):
         atlas = Atlas((1, 1, 1, 0, 0, 0, 0, 0), (("ann", NORTH),))
         self.assertTrue(alike(surely(atlas, "Oak", "Elm"), ("unlike", (0,), (1,))))

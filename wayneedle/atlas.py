@@ -1,6 +1,6 @@
 """Atlases: a box of compasses and the logs of walkers; dealings, what they tell, and groups of walkers."""
 
-from wayneedle.errors import BadBox, BadLog, NoDealing, NoName, NoWalker, Twice
+from wayneedle.errors import BadBox, BadLog, NoDealing, NoLeg, NoName, NoWalker, Twice
 from wayneedle.logs import held_log, is_lone, is_name, legs_in
 from wayneedle.lots import is_lot
 from wayneedle.things import is_row, is_whole
@@ -103,6 +103,13 @@ def told(atlas, dealing, name):
     refuse_unless_dealt(atlas, dealing)
     log = atlas.log(name)
     return facts(log, [lot for leg, lot in zip(atlas.legs(), dealing) if leg[0] == name])
+
+
+def refuse_unless_leg(atlas, name, leg):
+    """Refuse a name that no walker has, then a number that no leg of its log has."""
+    legs = legs_in(atlas.log(name))
+    if not 0 <= leg < legs:
+        raise NoLeg(name, leg)
 
 
 def lone_signs(log):

@@ -97,13 +97,13 @@ def is_left(teller, name, leg, dealt):
     return is_whole(leg) and (name, leg) in teller.order and (name, leg) not in dealt
 
 
-def are_branches(teller, thing, dealt):
-    """Whether the thing is pairs of a lot and something, their lots just those that the box has left, rising."""
+def are_branches(thing, lots):
+    """Whether the thing is pairs of a lot and something, their lots just these."""
     if not is_row(thing) or not all([is_row(pair) and len(pair) == 2 for pair in thing]):
         return False
-    lots = [lot for lot, below in thing]
+    firsts = [first for first, below in thing]
     # A truth equals a lot, so of each is asked whether it is one.
-    return all([is_lot(lot) for lot in lots]) and lots == lots_left_in(teller.box, list(dealt.values()))
+    return all([is_lot(first) for first in firsts]) and firsts == lots
 
 
 def dealt_too(dealt, leg, lot):
@@ -116,7 +116,8 @@ def dealt_too(dealt, leg, lot):
 def is_right_case(teller, paper, dealt, goal):
     """Whether the three behind the word make a case that is right with the legs that are dealt."""
     name, leg, branches = paper[1:]
-    if not is_left(teller, name, leg, dealt) or not are_branches(teller, branches, dealt):
+    lots = lots_left_in(teller.box, list(dealt.values()))
+    if not is_left(teller, name, leg, dealt) or not are_branches(branches, lots):
         return False
     for lot, below in branches:
         if not is_right(teller, below, dealt_too(dealt, (name, leg), lot), goal):

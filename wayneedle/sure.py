@@ -55,10 +55,8 @@ def shows(atlas, one, other, place, paper):
     return is_right(Teller(atlas), paper, {}, (one, other, tuple(place)))
 
 
-def sure_of(atlas, one, other):
-    """What surely tells of the two, but without papers."""
-    refuse_unless_told(atlas, one, other)
-    found = all_that_fit(atlas)
+def sure_among(atlas, found, one, other):
+    """What surely tells of the two lone signs, but without papers, where these dealings fit, each with its weave."""
     if not found:
         return ("barred",)
     if not are_linked(atlas, one, other):
@@ -89,10 +87,11 @@ def paper_behind(teller, lots, goal):
 
 def surely(atlas, one, other):
     """What is so of the two lone signs in each dealing that fits, with a paper that shows it."""
-    found = sure_of(atlas, one, other)
-    if found[0] == "barred":
+    refuse_unless_told(atlas, one, other)
+    so = sure_among(atlas, all_that_fit(atlas), one, other)
+    if so[0] == "barred":
         return settled(atlas)
-    if found[0] == "apart":
-        place = found[1]
+    if so[0] == "apart":
+        place = so[1]
         return ("apart", place, paper_behind(Teller(atlas), (), (one, other, place)))
-    return found
+    return so

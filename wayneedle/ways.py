@@ -1,8 +1,8 @@
 """Roads along open ways, and letters that lead right whichever dealing is the true one."""
 
-from wayneedle.errors import NoFit, NoLeg, NoLink, TooMany
+from wayneedle.atlas import refuse_unless_leg
+from wayneedle.errors import NoFit, NoLink, TooMany
 from wayneedle.fits import all_that_fit, weave_that_fits
-from wayneedle.logs import legs_in
 from wayneedle.lots import LETTERS, is_letter, step, true, way_of
 from wayneedle.maps import moved_facts
 from wayneedle.sure import are_linked, refuse_unless_told
@@ -82,9 +82,7 @@ def road(atlas, dealing, one, other):
 
 def walks_that_fit(atlas, name, leg, one, other):
     """For each dealing that fits a walk by the compass of the leg."""
-    legs = legs_in(atlas.log(name))
-    if not 0 <= leg < legs:
-        raise NoLeg(name, leg)
+    refuse_unless_leg(atlas, name, leg)
     refuse_unless_linked(atlas, one, other)
     found = all_that_fit(atlas)
     if not found:
