@@ -171,6 +171,16 @@ class Code(unittest.TestCase):
         read = {node.attr for path, node in nodes(ast.Attribute) if isinstance(node.ctx, ast.Load)}
         self.assertEqual(read - methods - attributes - BUILTIN_METHODS, set())
 
+    def test_attributes_are_set_through_a_local_name(self):
+        for path, node in nodes(ast.Attribute):
+            if isinstance(node.ctx, ast.Store):
+                self.assertIsInstance(node.value, ast.Name, (path, node.lineno))
+
+    def test_own_errors_alone_are_caught(self):
+        own = {node.name for path, node in nodes(ast.ClassDef) if path.stem == "errors"}
+        for path, node in nodes(ast.ExceptHandler):
+            self.assertIn(node.type.id, own, (path, node.lineno))
+
     def test_no_local_name_is_that_of_a_class_or_an_import(self):
         for path, text, tree in sources():
             barred = {name.asname or name.name for node in tree.body if isinstance(node, ast.ImportFrom) for name in node.names}
